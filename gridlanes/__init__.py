@@ -1,0 +1,1 @@
+"""Gridlanes: boxes in columns and rows, for all sizes."""
