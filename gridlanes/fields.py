@@ -44,8 +44,9 @@ def wrong_field_row(fields):
         if not is_field_row(row) or len(row) != len(fields[0]):
             return index
     cells = field_cells(fields)
+    # Each name is judged once: a name may stand in every cell.
+    wrong = {name: True for name in cells if not is_rectangle(cells[name])}
     for index, row in enumerate(fields):
-        for word in row:
-            if word != NO_FIELD and not is_rectangle(cells[word]):
-                return index
+        if any([word in wrong for word in row]):
+            return index
     return None

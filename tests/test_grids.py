@@ -290,6 +290,21 @@ class FieldsTest(Case):
             wrong = [row for row in range(2) if any(not self.is_whole(fields, word) for word in fields[row])]
             self.check_fields(fields, wrong[0] if wrong else None)
 
+    def test_fields_of_four_hundred_cells(self):
+        one = (("a",) * 20,) * 20
+        two = (("a",) * 7 + ("b",) * 13,) * 20
+        three = two[:5] + (("c",) * 20,) * 15
+        many = tuple(tuple(f"f-{row}-{column}" for column in range(20)) for row in range(20))
+        for fields in (one, two, three, many, many[:10] + (("a",) * 20,) * 10):
+            self.check_fields(fields, None)
+        for at in (0, 1, 18, 19):
+            for word in ("b", "."):
+                hole = ("a",) * 19 + (word,)
+                self.check_fields((("a",) * 20,) * at + (hole,) + (("a",) * 20,) * (19 - at), 0)
+            self.check_fields(many[:at] + (("x", "y", "x") + many[at][3:],) + many[at + 1:], at)
+        self.check_fields(three[:19] + (three[0],), 0)
+        self.check_fields((("d",) * 20,) + three[:18] + (three[0],), 1)
+
     def is_whole(self, fields, word):
         """Tell whether each cell between two cells of a word has this word."""
         if word == ".":
