@@ -17,6 +17,93 @@ GRID = """
 raises NoGrid('columns', -1)
 """
 
+REPEATS = """
+>>> from gridlanes.pages import Grid
+>>> from gridlanes.repeats import repeats_of
+>>> grid = Grid((50, ("fill", (("between", 100, ("share", 1)),))), column_gap=10)
+>>> [repeats_of(grid, "column", 270), repeats_of(grid, "column", (539, 2)), repeats_of(grid, "column", None)]
+[2, 1, 1]
+"""
+
+LANE_SIZES = """
+>>> from gridlanes.pages import Grid
+>>> from gridlanes.repeats import lane_sizes
+>>> grid = Grid((50,), more_columns=(10, 20, 30))
+>>> lane_sizes(grid, "column", 0, -2, 4)
+[20, 30, 50, 10, 20, 30]
+"""
+
+FALLEN_LANES = """
+>>> from gridlanes.pages import Grid
+>>> from gridlanes.repeats import fallen_lanes
+>>> grid = Grid((50, ("fit", (100,))))
+>>> fallen_lanes(grid, "column", 4, [(0, 2), (3, 4)])
+[2, 4]
+"""
+
+CONTRIBUTIONS = """
+>>> from gridlanes.contents import Words
+>>> from gridlanes.contributions import contributions
+>>> from gridlanes.pages import Item
+>>> item = Item(Words((30, 20), 5, 12, 9), margins=(0, 1, 0, 1))
+>>> [contributions(item, "column", ("auto",), 0), contributions(item, "column", (("share", 1), 10), 4), contributions(item, "column", (("between", "auto", 12), 10), 4)]
+[(32, 57, 32, 32, 57), (32, 57, 2, 32, 57), (32, 57, 26, 26, 26)]
+"""
+
+# Those within the points, put into the form of sessions.
+LINES_POINTS = """
+>>> from gridlanes.lines import edges_of, lines_of
+>>> from gridlanes.pages import Grid
+>>> g = Grid((("names", ("a",)), 10, ("repeat", 2, (20, ("names", ("b",))))), fields=(("f", "f", "."),))
+>>> lines_of(g, "column")
+[['a', 'f-start'], [], ['b', 'f-end'], ['b']]
+>>> edges_of(g, "column", ("f", None))
+('at', 0, 1)
+>>> edges_of(g, "column", (("b", 3), ("span", 2, "a")))
+('at', 4, 6)
+>>> edges_of(g, "column", (-1, 1))
+('at', 0, 3)
+>>> edges_of(g, "column", (("span", 2, "b"), None))
+('span', 1)
+"""
+
+PLACES_POINT = """
+>>> from gridlanes.contents import Block
+>>> from gridlanes.pages import Grid, Item, Page
+>>> from gridlanes.walks import places
+>>> b = Block(1, 1)
+>>> some = [Item(b, column=(("span", 2), None)), Item(b, column=(2, 4)), Item(b), Item(b)]
+>>> places(Page(Grid((10, 10, 10)), some))
+([(0, 2, 0, 1), (1, 3, 1, 2), (0, 1, 2, 3), (1, 2, 2, 3)], ((0, 3), (0, 3)))
+>>> places(Page(Grid((10, 10, 10), dense=True), some))
+([(0, 2, 0, 1), (1, 3, 1, 2), (2, 3, 0, 1), (0, 1, 1, 2)], ((0, 3), (0, 2)))
+"""
+
+REPEATS_POINT = """
+>>> from gridlanes.pages import Grid
+>>> from gridlanes.repeats import repeats_of
+>>> grid = Grid((50, ("fill", (("between", 100, ("share", 1)),))), column_gap=10)
+>>> repeats_of(grid, "column", 270)
+2
+>>> repeats_of(grid, "column", (539, 2))
+1
+"""
+
+CONTRIBUTIONS_POINT = """
+>>> from gridlanes.contents import Words
+>>> from gridlanes.contributions import contributions
+>>> from gridlanes.pages import Item
+>>> i = Item(Words((30, 20), 5, 12, 9), margins=(0, 1, 0, 1))
+>>> contributions(i, "column", ("auto",), 0)
+(32, 57, 32, 32, 57)
+>>> contributions(i, "column", (("share", 1), 10), 4)
+(32, 57, 2, 32, 57)
+>>> contributions(i, "column", (("between", "auto", 12), 10), 4)
+(32, 57, 26, 26, 26)
+>>> contributions(i, "row", ("auto",), 0, inner=54)
+(24, 24, 24, 24, 24)
+"""
+
 WRONG = """
 >>> from gridlanes.pages import Grid
 >>> Grid((("fill", ("auto",)),))
@@ -41,6 +128,26 @@ class ExamplesTest(unittest.TestCase):
 
     def test_grid(self):
         self.check(GRID)
+
+    def test_repeats(self):
+        self.check(REPEATS)
+        self.check(REPEATS_POINT)
+
+    def test_lane_sizes(self):
+        self.check(LANE_SIZES)
+
+    def test_fallen_lanes(self):
+        self.check(FALLEN_LANES)
+
+    def test_contributions(self):
+        self.check(CONTRIBUTIONS)
+        self.check(CONTRIBUTIONS_POINT)
+
+    def test_lines(self):
+        self.check(LINES_POINTS)
+
+    def test_places(self):
+        self.check(PLACES_POINT)
 
     def test_a_wrong_session_is_seen(self):
         self.assertEqual([found == due for found, due in run_session(WRONG)], [False, False, False])

@@ -3,7 +3,8 @@
 import unittest
 from fractions import Fraction
 
-from gridlanes.reckoning import at_most, is_length, is_number, number_of, plus, times
+from gridlanes.reckoning import (at_most, greater, is_length, is_more, is_number, lesser, minus, number_of, over, plus,
+                                 times, total, with_gaps)
 from tests.support import Case, HUGE, all_values
 
 NUMBERS = (0, 1, -1, 2, 7, -12, (1, 2), (-1, 2), (3, 2), (-3, 2), (2, 3), (-5, 6), (25, 2), (1, 12), HUGE,
@@ -35,7 +36,8 @@ class NumbersTest(Case):
         for bottom in (-3, -2, -1, 0, 1):
             self.assertIs(is_number((1, bottom)), False)
         self.assertIs(is_number((1, 2)), True)
-        for value in ((2, 4), (-2, 4), (6, 3), (0, 2), (4, 6), (9, 6), (1, 2, 3), (1,), (1, True), (True, 2), ((1,), 2)):
+        for value in ((2, 4), (-2, 4), (6, 3), (0, 2), (4, 6), (9, 6), (1, 2, 3), (1,), (1, True), (True, 2), ((1,), 2),
+                      (1, None), (1, "a"), (1, (2,)), (None, 2), ("a", 2)):
             self.assertIs(is_number(value), False)
 
     def test_lengths_begin_at_zero(self):
@@ -49,7 +51,21 @@ class NumbersTest(Case):
             for other in NUMBERS:
                 self.check_numbers(plus(one, other), number(fraction(one) + fraction(other)))
                 self.check_numbers(times(one, other), number(fraction(one) * fraction(other)))
+                self.check_numbers(minus(one, other), number(fraction(one) - fraction(other)))
+                self.check_numbers(lesser(one, other), number(min(fraction(one), fraction(other))))
+                self.check_numbers(greater(one, other), number(max(fraction(one), fraction(other))))
                 self.assertIs(at_most(one, other), fraction(one) <= fraction(other))
+                self.assertIs(is_more(one, other), fraction(one) > fraction(other))
+                if fraction(other) > 0:
+                    self.check_numbers(over(one, other), number(fraction(one) / fraction(other)))
+
+    def test_sums(self):
+        self.check_numbers(total([]), 0)
+        self.check_numbers(total([1, (1, 2), (3, 2)]), 3)
+        self.check_numbers(total([1, (1, 3)]), (4, 3))
+        self.check_numbers(with_gaps([], 7), 0)
+        self.check_numbers(with_gaps([5], 7), 5)
+        self.check_numbers(with_gaps([5, (1, 2), 3], (3, 4)), 10)
 
     def test_whole_numbers_are_integers(self):
         self.check_numbers(number_of(6, 3), 2)
@@ -67,6 +83,7 @@ class NumbersTest(Case):
         self.assertTrue(plus((great + 1, great), (great - 1, great)) == 2)
         self.assertTrue(times(great, (1, great)) == 1)
         self.assertIs(at_most((great + 1, great), 1), False)
+
 
 if __name__ == "__main__":
     unittest.main()
