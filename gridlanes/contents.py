@@ -118,10 +118,15 @@ def lines_in(content, width):
     return list(zip(firsts, behinds))
 
 
+def height_of(content, width):
+    """Return the height of Words or a Block in a width that is known to be one."""
+    if isinstance(content, Block):
+        return content.height
+    return times(len(line_firsts(content, width)), content.line)
+
+
 def height_in(content, width):
     """Return the height of Words or a Block in a width."""
     check_content(content)
     check_width(width)
-    if isinstance(content, Block):
-        return content.height
-    return times(len(line_firsts(content, width)), content.line)
+    return height_of(content, width)

@@ -9,6 +9,15 @@ from gridlanes.written import is_names, told_lanes, written_entries
 MOST_COUNT = 60
 
 
+class Lines:
+    """The names of the lines of an axis; if it is inherited, there are no further lanes and lines."""
+
+    def __init__(self, names, is_inherited):
+        self.names = names
+        self.lanes = len(names) - 1
+        self.is_inherited = is_inherited
+
+
 def is_count(value):
     """Tell whether a fill or fit may be asked to repeat so often."""
     return is_integer(value) and 1 <= value <= MOST_COUNT

@@ -64,6 +64,13 @@ def high_of(size):
     return size
 
 
+def has_part(size):
+    """Tell whether the low, the high or the cap of a size is a part."""
+    if is_between(size):
+        return is_part(size[1]) or is_part(size[2])
+    return is_part(size) or (is_upto(size) and is_part(size[1]))
+
+
 def is_names_entry(value):
     """Tell whether a value is an entry with the names of a line."""
     return is_marked(value, "names", 2) and are_names(value[1])

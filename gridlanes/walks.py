@@ -2,18 +2,9 @@
 
 from gridlanes.axes import AXES, check_lanes
 from gridlanes.errors import NoNumber, NoPage
-from gridlanes.lines import cut_meaning, is_count, meaning_of, told_lines
+from gridlanes.lines import Lines, cut_meaning, is_count, meaning_of, told_lines
 from gridlanes.pages import Page
 from gridlanes.written import told_lanes
-
-
-class Lines:
-    """The names of the lines of an axis; if it is inherited, there are no further lanes and lines."""
-
-    def __init__(self, names, is_inherited):
-        self.names = names
-        self.lanes = len(names) - 1
-        self.is_inherited = is_inherited
 
 
 class Walk:

@@ -50,6 +50,49 @@ CONTRIBUTIONS = """
 [(32, 57, 32, 32, 57), (32, 57, 2, 32, 57), (32, 57, 26, 26, 26)]
 """
 
+# Of layouts only what these modules tell of them: the layout itself stands in a later stage.
+OWN_SIZES = """
+>>> from gridlanes.contents import Words
+>>> from gridlanes.own import own_widths
+>>> from gridlanes.pages import Grid, Item, Page
+>>> from gridlanes.rows import own_height
+>>> p = Page(Grid((30, 'auto'), column_gap=4), [Item(Words((20, 50, 10), 5, 12, 9), column=(2, None))])
+>>> (own_widths(p), own_height(p, 100))
+((84, 124), 24)
+"""
+
+BASELINES = """
+>>> from gridlanes.contents import Words
+>>> from gridlanes.pages import Grid, Item, Page
+>>> from gridlanes.rows import first_baseline, shims
+>>> p = Page(Grid(items_align='baseline'), [Item(Words((10,), 0, 12, 9), column=(1, None), row=(1, None)), Item(Words((10,), 0, 20, 16), column=(2, None), row=(1, None), margins=(5, 0, 0, 0))])
+>>> (shims(p, 50), first_baseline(p, 50))
+([12, 0], 21)
+"""
+
+INHERITED = """
+>>> from gridlanes.contents import Block
+>>> from gridlanes.own import own_widths
+>>> from gridlanes.pages import Grid, Item, Page
+>>> q = Page(Grid(('inherited', ()), column_gap=10), [Item(Block(30, 5), column=(1, None)), Item(Block(50, 5), column=(2, None))])
+>>> p = Page(Grid(('auto', 'auto')), [Item(q, column=(1, 3))])
+>>> own_widths(p)
+(90, 90)
+"""
+
+SIZED_LANES = """
+>>> from gridlanes.lanes import sized_lanes
+>>> crossings = [(0, 1, (30, 80, 30, 30, 80)), (0, 2, (100, 100, 50, 100, 100))]
+>>> [sized_lanes(("auto", ("share", 1), 40), 10, crossings, room) for room in (200, "least", "most")]
+[[80, 60, 40], [30, 60, 40], [80, 10, 40]]
+"""
+
+LANE_STATES = """
+>>> from gridlanes.lanes import lane_states
+>>> lane_states(("auto", "auto"), 0, [(0, 2, (30, 80, 30, 30, 80))], 100)[-3:]
+[(('ends',), (15, 15), (40, 40)), (('grown',), (40, 40), (40, 40)), (('shared',), (40, 40), (40, 40))]
+"""
+
 # Those within the points, put into the form of sessions.
 LINES_POINTS = """
 >>> from gridlanes.lines import edges_of, lines_of
@@ -104,6 +147,16 @@ CONTRIBUTIONS_POINT = """
 (24, 24, 24, 24, 24)
 """
 
+SHIMS_POINT = """
+>>> from gridlanes.contents import Words
+>>> from gridlanes.pages import Grid, Item, Page
+>>> from gridlanes.rows import shims
+>>> one = Item(Words((10,), 0, 12, 9), align="baseline", column=(1, None), row=(1, None))
+>>> other = Item(Words((10,), 0, 20, 16), align="baseline", column=(2, None), row=(1, None), margins=(5, 0, 0, 0))
+>>> shims(Page(Grid(), [one, other]), 0)
+[12, 0]
+"""
+
 WRONG = """
 >>> from gridlanes.pages import Grid
 >>> Grid((("fill", ("auto",)),))
@@ -142,6 +195,20 @@ class ExamplesTest(unittest.TestCase):
     def test_contributions(self):
         self.check(CONTRIBUTIONS)
         self.check(CONTRIBUTIONS_POINT)
+
+    def test_own_sizes(self):
+        self.check(OWN_SIZES)
+
+    def test_baselines(self):
+        self.check(BASELINES)
+        self.check(SHIMS_POINT)
+
+    def test_inherited(self):
+        self.check(INHERITED)
+
+    def test_lanes(self):
+        self.check(SIZED_LANES)
+        self.check(LANE_STATES)
 
     def test_lines(self):
         self.check(LINES_POINTS)

@@ -11,6 +11,11 @@ FUNCTIONS = {
     "repeats": ("repeats_of(grid, axis, whole)", "template_sizes(grid, axis, count)",
                 "lane_sizes(grid, axis, count, first, behind)", "lane_count(grid, axis, count)",
                 "fallen_lanes(grid, axis, count, areas)", "gap_of(grid, axis, whole)"),
+    "lanes": ("lane_states(sizes, gap, crossings, room, *, stretched=False)",
+              "sized_lanes(sizes, gap, crossings, room, *, stretched=False)"),
+    "own": ("own_widths(page)",),
+    "rows": ("own_height(page, width)", "shims(page, width, height=None)", "areas(page, width, height=None)",
+             "first_baseline(page, width, height=None)"),
     "contributions": ("contributions(item, axis, sizes, gap, *, whole=None, inner=None, own=None)",),
 }
 CLASSES = {

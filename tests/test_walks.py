@@ -6,9 +6,9 @@ import unittest
 
 from gridlanes.contents import Block
 from gridlanes.errors import ManyLanes, NoNumber, NoPage
-from gridlanes.lines import edges_of
+from gridlanes.lines import Lines, edges_of
 from gridlanes.pages import Grid, Item, Page
-from gridlanes.walks import Lines, places, walk_page
+from gridlanes.walks import places, walk_page
 from tests.literal_walk import cells_of, literal_walk
 from tests.support import Case, HUGE
 
