@@ -45,13 +45,6 @@ def in_axis(pair, axis):
     return pair[0] if axis == "column" else pair[1]
 
 
-def count_in(sheet, axis, whole):
-    """Return how often the fill or fit of an axis repeats, 0 for none."""
-    if sheet.names[axis] is None:
-        return fitting_repeats(sheet.page.grid, axis, whole)
-    return 0
-
-
 def lines_in(sheet, axis, count):
     """Return the lines of an axis of a sheet."""
     names = sheet.names[axis]
@@ -62,7 +55,8 @@ def lines_in(sheet, axis, count):
 
 def walked_in(sheet, width, height):
     """Return where the items of a sheet lie, for a width and a height of its page, or None for these."""
-    counts = (count_in(sheet, "column", width), count_in(sheet, "row", height))
+    grid = sheet.page.grid
+    counts = (fitting_repeats(grid, "column", width), fitting_repeats(grid, "row", height))
     if counts not in sheet.walks:
         lines = tuple([lines_in(sheet, axis, count) for axis, count in zip(AXES, counts)])
         areas, ends = walk_page(sheet.page, lines[0], lines[1])

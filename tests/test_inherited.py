@@ -86,6 +86,26 @@ class ColumnsTest(Case):
             page = Page(Grid(("auto", "auto")), [at((1, 3), 1, columns_page([]), margins=margins)])
             self.assertEqual(own_widths(page), (width, width))
 
+    def test_without_margins_nothing_is_asked(self):
+        # Nothing that asks for nothing gives the first column a limit, so both take half of what the block asks.
+        for margins in ((0, 0, 0, 0), (0, 5, 0, -5), (0, 1, 0, -9)):
+            page = Page(Grid(("auto", "auto"), justify="start"), [
+                at(1, 1, columns_page([]), margins=margins), at((1, 3), 2, block(100))])
+            self.check_numbers(columns_of(page, 100), [(0, 50), (50, 50)])
+
+    def test_an_item_that_begins_at_a_later_lane(self):
+        inner = columns_page([at(1, 1, block(30)), at(2, 1, block(50))], column_gap=6)
+        page = Page(Grid((5, "auto", "auto")), [at((2, 4), 1, inner, margins=(0, 2, 0, 8))])
+        self.check(page, (101, 101), 101, [(0, 5), (5, 41), (46, 55)], [(0, 30), (36, 50)])
+
+    def test_lanes_ahead(self):
+        inner = columns_page([at(1, 1, block(5)), at(2, 1, block(5))])
+        page = Page(Grid((10, 20, 30), more_columns=(7, 9)), [
+            at((1, 3), 1, inner), at((("a", -2), None), 2, block(1))])
+        self.assertEqual(columns_of(page, 100), [(0, 7), (7, 9), (16, 10), (26, 20), (46, 30)])
+        self.assertEqual(boxes_of(page, 100)[0][:3:2], (16, 30))
+        self.assertEqual(inner_of(page, 100)[0][1], [(0, 10), (10, 20)])
+
     def test_the_difference_of_gaps(self):
         members = [at(1, 1, block(30)), at(2, 1, block(50)), at((1, 3), 1, block(5))]
         for outer_gap, inner_gap, widths, inner in (
@@ -139,6 +159,13 @@ class ColumnsTest(Case):
         inner = columns_page([at("o", 1, block(5))])
         page = Page(Grid(outer, fields=((".", ".", "o", "."),)), [at((2, 4), 1, inner)])
         self.assertEqual(inner_of(page, 100)[0][3][0][:3:2], (20, 30))
+
+    def test_the_first_line_has_its_names(self):
+        page = Page(Grid((names("a"), 10, 20, names("b"))), [at((1, 3), 1, columns_page([at(("a", "b"), 1, block(5))]))])
+        self.assertEqual(inner_of(page, 100)[0][3][0][:3:2], (0, 30))
+        page = Page(Grid((names("a"), 10, names("b"))), [at((-3, 2), 1, columns_page([at((("b", 1), None), 1, block(5))]))])
+        self.assertEqual(columns_of(page, 100), [(0, 90), (90, 10)])
+        self.assertEqual(inner_of(page, 100)[0][3][0][:3:2], (90, 10))
 
     def test_lines_that_are_not_told_have_no_names(self):
         inner = columns_page([at((("a", 1), None), 1, block(5))])
@@ -202,6 +229,19 @@ class RowsTest(Case):
             page = Page(Grid((), (60, 70)), [at(1, (1, 3), inner, margins=(8, 0, 2, 0), **named)])
             self.check_numbers(boxes_of(page, 100)[0][1::2], (8, 120))
             self.check_numbers(inner_of(page, 100)[0][2], [(0, 52), (52, 68)])
+
+    def test_margins_that_are_more_than_the_area(self):
+        for height, due in ((9, 0), (10, 0), ((21, 2), HALF), (12, 2)):
+            page = Page(Grid((), (height,)), [at(1, 1, rows_page([]), margins=(8, 0, 2, 0))])
+            self.check_numbers(boxes_of(page, 100)[0][1::2], (8, due))
+
+    def test_lanes_ahead(self):
+        inner = rows_page([at(1, 1, block(5)), at(1, 2, block(5))])
+        page = Page(Grid((), (10, 20, 30), more_rows=(7, 9)), [
+            at(1, (1, 3), inner), at(2, (("a", -2), None), block(1))])
+        self.assertEqual(rows_of(page, 100), [(0, 7), (7, 9), (16, 10), (26, 20), (46, 30)])
+        self.assertEqual(boxes_of(page, 100)[0][1::2], (16, 30))
+        self.assertEqual(inner_of(page, 100)[0][2], [(0, 10), (10, 20)])
 
     def test_heights_are_those_in_the_inner_widths(self):
         inner = rows_page([at(1, 1, WORDS), at(2, 2, WORDS)])

@@ -183,6 +183,13 @@ class AlignedTest(Case):
             self.check(way, (0, 10, 30), (10, 20, 30), 60)
             self.check(way, (0, 12, 34), (10, 20, 30), 64, 2)
 
+    def test_little_space(self):
+        for way, starts in (("between", (0, (41, 4), (61, 2))), ("around", ((1, 12), (41, 4), (365, 12))),
+                            ("evenly", ((1, 8), (41, 4), (243, 8)))):
+            self.check(way, starts, (10, 20, 30), (121, 2))
+        for way in ("start", "stretch", "between", "around", "evenly"):
+            self.check(way, (0, 10, 30), (10, 20, 30), (119, 2))
+
     def test_too_little_space(self):
         for way in ("start", "stretch", "between", "around", "evenly"):
             self.check(way, (0, 10, 30), (10, 20, 30), 40)
@@ -444,6 +451,7 @@ class BaselinesTest(Case):
         self.check_baseline([at(1, 1, self.words(5)), at(1, 1, self.words(6))], 5, grid)
         self.check_baseline([at(2, 1, self.words(5), order=-9), at(1, 1, self.words(6), order=9)], 6, grid)
         self.check_baseline([at((1, 3), 1, self.words(5)), at(1, 1, self.words(6), order=-1)], 6, grid)
+        self.check_baseline([at((2, 3), 1, self.words(5)), at((1, 4), 1, self.words(6))], 6, grid)
 
     def test_pages_within(self):
         inner = Page(Grid((share(1),), (share(1),)), [Item(self.words(5, 10), align="end")])
