@@ -68,15 +68,10 @@ class Standing:
         for line, names in enumerate(template(self.grid, axis)[1]):
             if line < len(lines):
                 lines[line].update(names)
-        for field in lines_of(Grid(fields=self.grid.fields), axis) and [self.field_lines(axis)]:
-            for line, name in field:
-                lines[min(line, len(lines) - 1)].add(name)
+        # The names that fields give to lines of their own are those of a grid without a template.
+        for line, names in enumerate(lines_of(Grid(fields=self.grid.fields), axis)):
+            lines[min(line, len(lines) - 1)].update(names)
         return [sorted(names) for names in lines]
-
-    def field_lines(self, axis):
-        """Pairs of a line and a name that a field gives it."""
-        return [(line, name) for line, names in enumerate(lines_of(Grid(fields=self.grid.fields), axis))
-                for name in names]
 
     def walk(self, width, height):
         counts = (self.count("column", width), self.count("row", height))

@@ -35,7 +35,8 @@ def literal_walk(items, many_across, dense, across_is_cut=False, down_is_cut=Fal
                 column += 1
             put(index, area)
             placed_now.append(area)
-    end = max([many_across] + [item[1][2] for item in items if item[1][0] == "at"] + [area[1] for area in areas.values()])
+    told_ends = [item[1][2] for item in items if item[1][0] == "at"]
+    end = max([many_across] + told_ends + [area[1] for area in areas.values()])
     spans = [items[index][1][1] for index in order if index not in areas and items[index][1][0] == "span"]
     end = max([end] + [first_across + span for span in spans])
     if across_is_cut:
