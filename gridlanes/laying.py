@@ -8,9 +8,10 @@ from gridlanes.axes import asked_gap
 from gridlanes.contents import Block, Words, height_of
 from gridlanes.contributions import held, margins_in, margins_of
 from gridlanes.crossings import crossed, crossing_of, difference, half, inherited_crossings, lanes_in, sized
-from gridlanes.own import column_crossings, content_widths
+from gridlanes.errors import NoNumber
+from gridlanes.own import check_page, column_crossings, content_widths
 from gridlanes.pages import Page
-from gridlanes.reckoning import greater, lesser, minus, plus, with_gaps
+from gridlanes.reckoning import greater, is_length, lesser, minus, plus, with_gaps
 from gridlanes.repeats import gap_in
 from gridlanes.sheets import inner_sheet, item_inherits, lanes_of_item, outermost, walked_in
 from gridlanes.templates import has_part, is_part
@@ -81,6 +82,15 @@ def box_across(walked, columns, index):
     way = walked.sheet.page.grid.items_justify if item.justify is None else item.justify
     width = box_width(walked, index, way, room)
     return (plus(begin, shift(way, room, width)), width)
+
+
+def check_told(page, width, height):
+    """Raise an error if these are no page, no width, or no height or None."""
+    check_page(page)
+    if not is_length(width):
+        raise NoNumber("width")
+    if height is not None and not is_length(height):
+        raise NoNumber("height")
 
 
 def sized_columns(walked, width):
@@ -225,17 +235,30 @@ def own_height_in(across):
     return with_gaps(sizes, lanes.gap)
 
 
+def has_parts(grid, lanes):
+    """Tell whether the gap of rows or one of their sizes is told as a part."""
+    return is_part(asked_gap(grid, "row")) or any([has_part(size) for size in lanes.sizes])
+
+
+def row_work(across, height):
+    """Return the rows of a page and the room in which they are sized the last time; height may be None."""
+    if height is None:
+        lanes, _ = own_rows_in(across)
+        if not has_parts(across.walked.sheet.page.grid, lanes):
+            return (lanes, "most")
+        height = own_height_in(across)
+    return (lanes_in(across.walked, "row", height), height)
+
+
 def placed_rows(across, height):
     """Return the height of a page whose rows are its own, and these rows; height may be None."""
-    grid = across.walked.sheet.page.grid
-    room = height
-    if height is None:
-        room = own_height_in(across)
+    lanes, room = row_work(across, height)
+    if isinstance(room, str):
         lanes, sizes = own_rows_in(across)
-    if height is not None or is_part(asked_gap(grid, "row")) or any([has_part(size) for size in lanes.sizes]):
-        lanes = lanes_in(across.walked, "row", room)
+        room = own_height_in(across)
+    else:
         sizes = rows_sized(across, lanes, room)
-    return (room, placed_lanes(lanes, sizes, room, grid.align))
+    return (room, placed_lanes(lanes, sizes, room, across.walked.sheet.page.grid.align))
 
 
 def laid_in(across, height, inherited):

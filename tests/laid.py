@@ -1,21 +1,16 @@
-"""What the package finds out when it lays a page out, as plain values; layouts tell it in a later stage."""
+"""Layouts as plain values."""
 
-from gridlanes.laying import inner_laid, laid_page
-from gridlanes.pages import Page
+from gridlanes.layouts import layout
 
 
-def everything(laid):
+def everything(found):
     """(height, columns, rows, boxes, inner): the same as of tests.literal_pages."""
-    across = laid.across
-    members = across.walked.sheet.page.members
-    boxes = [(x, y, width, height) for (x, width), (y, height) in zip(across.boxes, laid.boxes)]
-    inner = [everything(inner_laid(laid, index)) if isinstance(member.content, Page) else None
-             for index, member in enumerate(members)]
-    return (laid.height, list(across.columns), list(laid.rows), boxes, inner)
+    inner = [None if one is None else everything(one) for one in found.inner]
+    return (found.height, found.columns, found.rows, found.boxes, inner)
 
 
 def laid_out(page, width, height=None):
-    return everything(laid_page(page, width, height))
+    return everything(layout(page, width, height))
 
 
 def columns_of(page, width, height=None):

@@ -461,3 +461,31 @@ def literal_shims(page, width, height=None):
 
 def literal_first_baseline(page, width, height=None):
     return number(laid_out(page, width, height).first_baseline())
+
+
+def literal_work(page, axis, width, height=None):
+    across = laid_out(page, width, height).across
+    walk, whole, room = across.walk, width, width
+    if axis == "row":
+        whole, room = height, "most" if height is None else height
+        if height is None and (has_part(page.grid.row_gap) or any(has_part(size) for size in walk.kept("row")[1])):
+            whole = room = number(across.own_height())
+    way = page.grid.justify if axis == "column" else page.grid.align
+    crossings = across.row_crossings(whole) if axis == "row" else walk.column_crossings(whole)
+    return (tuple(walk.kept(axis)[1]), gap_of(page.grid, axis, whole), crossings, room, way == "stretch")
+
+
+def literal_boxes(page, width, height=None):
+    """The size of a page, and its boxes in places of the whole page, those within an item directly behind it."""
+    boxes = []
+
+    def add(laid, left, top):
+        for index, item in enumerate(laid.walk.members):
+            (x, wide), (y, tall) = laid.across.box(index), laid.box(index)
+            boxes.append(tuple(number(part) for part in (left + x, top + y, wide, tall)))
+            if isinstance(item.content, Page):
+                add(laid.inner(index), left + x, top + y)
+
+    laid = laid_out(page, width, height)
+    add(laid, Fraction(0), Fraction(0))
+    return (number(laid.across.width), number(laid.height)), boxes

@@ -5,6 +5,7 @@ import unittest
 
 from gridlanes.contents import Block, Words
 from gridlanes.errors import LaneError, NoContent, NoItem
+from gridlanes.layouts import layout
 from gridlanes.pages import Grid, Item, Page
 
 HUGE = 10 ** 60
@@ -121,6 +122,7 @@ def own_values():
         "grid": Grid(),
         "item": Item(Block(1, 2)),
         "page": Page(Grid()),
+        "layout": layout(Page(Grid()), 5),
     }
 
 

@@ -17,10 +17,27 @@ FUNCTIONS = {
     "rows": ("own_height(page, width)", "shims(page, width, height=None)", "areas(page, width, height=None)",
              "first_baseline(page, width, height=None)"),
     "contributions": ("contributions(item, axis, sizes, gap, *, whole=None, inner=None, own=None)",),
+    "layouts": ("layout(page, width, height=None)",),
+    "orders": ("reordered(page, places)", "keeps(page, places, width, height=None)",
+               "orders_kept(page, width, height=None)", "first_exchange(page, width, height=None)"),
+    "paths": ("length_at(page, path)", "with_length(page, path, value)"),
+    "pieces": ("box_paths(page)", "pieces(page, vary, low, high, *, width=None, height=None, most=200)"),
+    "wishes": ("holds(page, vary, low, high, wish, *, width=None, height=None, most=200)",
+               "first_unlike(page, other, vary, low, high, *, other_vary=None, width=None, height=None, most=200)",
+               "shrinks(page, vary, low, high, box, side, *, width=None, height=None, most=200)",
+               "last_turn(page, vary, low, *, width=None, height=None, most=200)"),
+    "moves": ("moved(page, path, value, width, height=None)",
+              "least_move(page, path, box, *, width, height=None, limit=None, most=200)",
+              "least_fall(page, path, box, *, width, height=None, limit=0, most=200)"),
+    "texts": ("page_text(page)", "read_page(text)"),
+    "judging": ("work(page, axis, width, height=None)",
+                "check_states(sizes, gap, crossings, room, states, *, stretched=False)",
+                "check_layout(page, boxes, width, height=None)"),
 }
 CLASSES = {
     "contents": ("Words(widths, blank, line, base)", "Block(width, height)"),
     "pages": ("Grid", "Item", "Page(grid, members=())"),
+    "layouts": ("Layout",),
 }
 
 

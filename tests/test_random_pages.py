@@ -3,7 +3,6 @@
 import random
 import unittest
 
-from gridlanes.laying import laid_page
 from gridlanes.own import own_widths
 from gridlanes.rows import areas, first_baseline, own_height, shims
 from tests import laid, literal_pages
@@ -23,7 +22,7 @@ class RandomPagesTest(unittest.TestCase):
         ):
             self.assertEqual(repr(call(*given)), repr(literal(*given)), call.__name__)
         due = literal_pages.everything(literal_pages.laid_out(page, width, height))
-        self.assertEqual(repr(laid.everything(laid_page(page, width, height))), repr(due))
+        self.assertEqual(repr(laid.laid_out(page, width, height)), repr(due))
 
     def check_pages(self, seed, many, depth):
         rng = random.Random(seed)
