@@ -4,8 +4,8 @@ from gridlanes.boxes import placed_boxes
 from gridlanes.errors import NoRange, NoWish
 from gridlanes.laying import check_told, laid_page
 from gridlanes.paths import is_allowed_at, length_at, with_length
-from gridlanes.pieces import box_paths, has_filler, pieces
-from gridlanes.reckoning import at_most, is_integer, minus, value_at
+from gridlanes.pieces import box_paths, has_filler, is_box, pieces
+from gridlanes.reckoning import at_most, minus, values_at
 
 
 def moved(page, path, value, width, height=None):
@@ -19,13 +19,8 @@ def moved(page, path, value, width, height=None):
 
 def check_box(page, box):
     """Raise NoWish if this is not the index of a box."""
-    if not is_integer(box) or not 0 <= box < len(box_paths(page)):
+    if not is_box(box, len(box_paths(page))):
         raise NoWish(box)
-
-
-def box_at(piece, box, number):
-    """Return the numbers of a box at a number of a piece."""
-    return [value_at(form, number) for form in piece[5][box]]
 
 
 def is_still(piece, box, due):
@@ -41,7 +36,7 @@ def first_change(found, box, due, is_growing):
     for piece in found:
         if not is_still(piece, box, due):
             number, is_with = piece[:2] if is_growing else piece[2:4]
-            return (number, is_with and box_at(piece, box, number) != due)
+            return (number, is_with and values_at(piece[5][box], number) != due)
     return None
 
 
@@ -55,7 +50,7 @@ def least_move(page, path, box, *, width, height=None, limit=None, most=200):
     elif not is_allowed_at(page, path, limit) or not at_most(length, limit):
         raise NoRange("limit")
     found = pieces(page, path, length, limit, width=width, height=height, most=most)
-    change = first_change(found, box, box_at(found[0], box, length), True)
+    change = first_change(found, box, values_at(found[0][5][box], length), True)
     return None if change is None else (minus(change[0], length), change[1])
 
 
@@ -66,5 +61,5 @@ def least_fall(page, path, box, *, width, height=None, limit=0, most=200):
     if not is_allowed_at(page, path, limit) or not at_most(limit, length):
         raise NoRange("limit")
     found = pieces(page, path, limit, length, width=width, height=height, most=most)
-    change = first_change(found[::-1], box, box_at(found[-1], box, length), False)
+    change = first_change(found[::-1], box, values_at(found[-1][5][box], length), False)
     return None if change is None else (minus(length, change[0]), change[1])

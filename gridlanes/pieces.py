@@ -9,7 +9,7 @@ from gridlanes.names import is_word
 from gridlanes.own import check_page
 from gridlanes.pages import Page
 from gridlanes.paths import is_allowed_at, page_with, path_end
-from gridlanes.reckoning import form_of, is_integer, is_length, is_more, value_at
+from gridlanes.reckoning import form_of, is_integer, is_length, is_more, values_at
 from gridlanes.written import filler_of
 
 SIDES = ("width", "height")
@@ -34,6 +34,11 @@ def box_paths(page):
         if isinstance(item.content, Page):
             paths.extend([(index, *path) for path in box_paths(item.content)])
     return paths
+
+
+def is_box(value, many):
+    """Tell whether a value is the index of one of so many boxes."""
+    return is_integer(value) and 0 <= value < many
 
 
 def has_filler(page):
@@ -108,7 +113,7 @@ def point_of(forms):
 
 def numbers_at(forms, number):
     """Return the numbers to which forms come at a number."""
-    return [[value_at(form, number) for form in row] for row in forms]
+    return [values_at(row, number) for row in forms]
 
 
 def piece_of(start, is_with_start, end, is_with_end, forms):

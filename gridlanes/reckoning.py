@@ -219,5 +219,10 @@ def form_of(number):
 
 
 def value_at(form, number):
-    """Return what a form comes to at a number."""
+    """Return what a form comes to at a number, which may be moving."""
     return plus(form[0], times(form[1], number))
+
+
+def values_at(forms, number):
+    """Return the list of what forms come to at a number."""
+    return [value_at(form, number) for form in forms]

@@ -3,16 +3,11 @@
 from gridlanes.errors import NoWish, OtherBoxes
 from gridlanes.growing import cuts_between
 from gridlanes.names import is_marked, is_word
-from gridlanes.pieces import box_paths, pieces
-from gridlanes.reckoning import at_most, is_integer, is_length, plus, value_at
+from gridlanes.pieces import box_paths, is_box, pieces
+from gridlanes.reckoning import at_most, is_length, plus, value_at, values_at
 
 DEEPEST = 4
 MOST_WISHES = 20
-
-
-def is_box(value, many):
-    """Tell whether a value is the index of one of so many boxes."""
-    return is_integer(value) and 0 <= value < many
 
 
 def is_plain_wish(value, many):
@@ -39,11 +34,6 @@ def is_wish(value, many, deepest):
     if not isinstance(value[1], tuple) or len(value[1]) > MOST_WISHES:
         return False
     return all([is_wish(wish, many, deepest - 1) for wish in value[1]])
-
-
-def numbers_of(forms, number):
-    """Return the numbers to which some forms come at a number, which may be moving."""
-    return [value_at(form, number) for form in forms]
 
 
 def is_inside(box, size):
@@ -75,10 +65,10 @@ def is_met(wish, piece, number):
     if word == "any":
         return any([is_met(inner, piece, number) for inner in wish[1]])
     if word == "inside":
-        size = numbers_of(piece[4], number)
-        return all([is_inside(numbers_of(box, number), size) for box in boxes])
+        size = values_at(piece[4], number)
+        return all([is_inside(values_at(box, number), size) for box in boxes])
     if word == "apart":
-        return are_apart(numbers_of(boxes[wish[1]], number), numbers_of(boxes[wish[2]], number))
+        return are_apart(values_at(boxes[wish[1]], number), values_at(boxes[wish[2]], number))
     side = boxes[wish[1]][2 if word == "wide" else 3]
     return at_most(wish[2], value_at(side, number))
 
@@ -131,7 +121,7 @@ def told_at(found, number):
     """Return the size and the boxes that pieces tell at a number; it may be moving."""
     for piece in found:
         if is_up_to(piece, number):
-            return [numbers_of(forms, number) for forms in (piece[4], *piece[5])]
+            return [values_at(forms, number) for forms in (piece[4], *piece[5])]
     return []
 
 

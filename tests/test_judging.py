@@ -11,20 +11,9 @@ from gridlanes.layouts import layout
 from gridlanes.pages import Grid, Item, Page
 from tests import literal_pages
 from tests.random_pages import random_page
+from tests.short import HALF, WORDS, at, share
 from tests.support import Case, all_values, raised
 
-HALF = (1, 2)
-WORDS = Words((20, 50, 10), 5, 12, 9)
-
-
-def share(k):
-    return ("share", k)
-
-
-def at(column, row, content=WORDS, **named):
-    column = column if isinstance(column, tuple) else (column, None)
-    row = row if isinstance(row, tuple) else (row, None)
-    return Item(content, column=column, row=row, **named)
 
 
 def judged(arguments, states):

@@ -3,20 +3,15 @@
 import random
 import unittest
 
-from gridlanes.contents import Block, Words
+from gridlanes.contents import Block
 from gridlanes.errors import ManyLanes, NoNumber, NoPage
 from gridlanes.layouts import Layout, layout
 from gridlanes.pages import Grid, Item, Page
 from tests.random_pages import random_page
+from tests.short import HALF, WORDS, share
 from tests.support import Case, all_values, raised
 
-HALF = (1, 2)
-WORDS = Words((20, 50, 10), 5, 12, 9)
 PARTS = ("width", "height", "columns", "rows", "boxes", "inner")
-
-
-def share(k):
-    return ("share", k)
 
 
 def parts_of(found):

@@ -2,7 +2,6 @@
 
 import random
 import unittest
-from fractions import Fraction
 
 from gridlanes.contents import Block, Words
 from gridlanes.errors import ManyLanes, NoNumber, NoPath, NoRange, NoWish, TooMany
@@ -12,24 +11,11 @@ from gridlanes.paths import length_at
 from gridlanes.pieces import box_paths, pieces
 from tests.literal_lanes import fraction, number
 from tests.random_pages import random_page
+from tests.short import HALF, LENGTHS, NUMBERS, WORDS, at, share
 from tests.support import Case, all_values, raised
 from tests.test_wishes import values_around
 from tests.varied import LITTLE, length_paths, look
 
-HALF = (1, 2)
-WORDS = Words((20, 50, 10), 5, 12, 9)
-LENGTHS = ("zero", "one", "huge", "half")
-NUMBERS = (*LENGTHS, "minus one", "minus huge", "minus half")
-
-
-def share(k):
-    return ("share", k)
-
-
-def at(column, row, content=WORDS, **named):
-    column = column if isinstance(column, tuple) else (column, None)
-    row = row if isinstance(row, tuple) else (row, None)
-    return Item(content, column=column, row=row, **named)
 
 
 def three_blocks():

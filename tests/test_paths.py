@@ -9,15 +9,9 @@ from gridlanes.pages import Grid, Item, Page
 from gridlanes.paths import length_at, with_length
 from gridlanes.pieces import box_paths
 from tests.random_pages import random_page
+from tests.short import HALF, LENGTHS, NUMBERS, share
 from tests.support import Case, all_values, raised
 
-HALF = (1, 2)
-LENGTHS = ("zero", "one", "huge", "half")
-NUMBERS = (*LENGTHS, "minus one", "minus huge", "minus half")
-
-
-def share(k):
-    return ("share", k)
 
 
 def names(*given):
@@ -181,6 +175,17 @@ class PathsTest(Case):
                      ("members", 1, "row", 0), ("members", 1, "width"), ("grid", "more_rows", 1), ("members", 3, "width"),
                      ("members", 0, "content", "widths", 3), ("members", 0, "margins", 4), ("grid", "columns", 12)):
             self.check_no_path(page, path)
+
+    def test_tuples_that_look_like_fractions(self):
+        page = Page(Grid((1, 2), (3, 2), more_columns=(5, 3), more_rows=(("between", 1, 2), 2)), [
+            Item(Words((1, 2), 0, 0, 0), row=(1, 2), column=(1, 3))])
+        for path in (("grid", "columns"), ("grid", "rows"), ("grid", "more_columns"), ("members", 0, "content", "widths"),
+                     ("members", 0, "row"), ("members", 0, "column"), ("members", 0, "row", 0)):
+            self.check_no_path(page, path)
+        for path, due in ((("grid", "columns", 1), 2), (("grid", "more_columns", 1), 3),
+                          (("members", 0, "content", "widths", 0), 1)):
+            self.assertEqual(length_at(page, path), due)
+            self.assertEqual(length_at(with_length(page, path, (7, 2)), path), (7, 2))
 
     def test_steps_and_paths_of_all_kinds(self):
         page = Page(Grid((10, 20)), [Item(Block(1, 2))])

@@ -11,22 +11,10 @@ from gridlanes.pieces import pieces
 from tests import literal_pages
 from tests.literal_lanes import fraction, number
 from tests.random_pages import random_page
+from tests.short import HALF, LENGTHS, WORDS, share
 from tests.support import Case, all_values, raised
 from tests.varied import check_pieces, length_paths, look, with_value
 
-HALF = (1, 2)
-WORDS = Words((20, 50, 10), 5, 12, 9)
-LENGTHS = ("zero", "one", "huge", "half")
-
-
-def share(k):
-    return ("share", k)
-
-
-def at(column, row, content=WORDS, **named):
-    column = column if isinstance(column, tuple) else (column, None)
-    row = row if isinstance(row, tuple) else (row, None)
-    return Item(content, column=column, row=row, **named)
 
 
 def flat(*numbers):

@@ -9,9 +9,9 @@ from gridlanes.pages import Grid, Item, Page
 from gridlanes.texts import page_text, read_page
 from tests.literal_texts import wrong_line
 from tests.random_pages import random_page
+from tests.short import HALF, share
 from tests.support import Case, raised
 
-HALF = (1, 2)
 PLAIN = """columns
 rows
 more-columns auto
@@ -100,10 +100,6 @@ item 0
   own - -
   block 3 4
 """
-
-
-def share(k):
-    return ("share", k)
 
 
 def whole_page():
@@ -248,6 +244,10 @@ class ReadTest(Case):
             if line.startswith(" "):
                 self.check_line(index, line[1:])
                 self.check_line(index, line[2:])
+            blanks = len(line) - len(line.lstrip())
+            for sign in ("x", "\t", "\u00a0", "-"):
+                for many in range(1, blanks + 1):
+                    self.check_line(index, sign * many + line[many:])
             for more in ("  ", "    ", "      "):
                 # An item may come to stand in another page: then a later line is wrong.
                 text = with_line(WHOLE, index, more + line)

@@ -2,7 +2,6 @@
 
 import random
 import unittest
-from fractions import Fraction
 
 from gridlanes.contents import Block, Words
 from gridlanes.errors import ManyLanes, NoNumber, NoPath, NoRange, NoWish, OtherBoxes, TooMany
@@ -12,24 +11,12 @@ from gridlanes.pieces import box_paths, pieces
 from gridlanes.wishes import first_fall, first_unlike, holds, last_turn, shrinks
 from tests.literal_lanes import fraction, number
 from tests.random_pages import random_page
+from tests.short import LENGTHS, WORDS, at, share
 from tests.support import Case, all_values, raised
 from tests.varied import LITTLE, length_paths, look
 
-HALF = (1, 2)
-WORDS = Words((20, 50, 10), 5, 12, 9)
-LENGTHS = ("zero", "one", "huge", "half")
 INSIDE = ("inside",)
 FILL = Page(Grid((("fill", (("between", 40, ("share", 1)),)),)), [Item(Words((), 0, 0, 0))])
-
-
-def share(k):
-    return ("share", k)
-
-
-def at(column, row, content=WORDS, **named):
-    column = column if isinstance(column, tuple) else (column, None)
-    row = row if isinstance(row, tuple) else (row, None)
-    return Item(content, column=column, row=row, **named)
 
 
 def nested(wish, deep):
