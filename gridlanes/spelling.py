@@ -5,7 +5,7 @@ What is read from a word without the form of one is None; no word that has one i
 
 from gridlanes.edges import is_edge
 from gridlanes.names import is_marked, is_name
-from gridlanes.reckoning import is_integer
+from gridlanes.reckoning import is_integer, is_number
 
 FIGURES = "0123456789"
 MOST_FIGURES = 30
@@ -83,12 +83,12 @@ def read_integer(word):
 
 
 def read_number(word):
-    """Return the integer that a word tells, or the tuple (top, bottom), be it a NUMBER or not."""
+    """Return the NUMBER that a word tells."""
     top, stroke, bottom = word.partition("/")
-    parts = [read_integer(part) for part in ([top, bottom] if stroke != "" else [top])]
-    if any([part is None for part in parts]):
-        return None
-    return parts[0] if len(parts) == 1 else tuple(parts)
+    if stroke == "":
+        return read_integer(word)
+    number = (read_integer(top), read_integer(bottom))
+    return number if is_number(number) else None
 
 
 def split_words(text):

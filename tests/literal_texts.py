@@ -1,9 +1,11 @@
 """The forms of promises [85] and [86], written out as patterns, for the tests to compare with."""
 
 import re
+from fractions import Fraction
 
 INTEGER = "(?:0|-?[1-9][0-9]{0,29})"
-NUMBER = f"{INTEGER}(?:/{INTEGER})?"
+NUMBER = f"{INTEGER}(?:/(?:[2-9]|[1-9][0-9]{{1,29}}))?"
+FRACTION = "(-?[0-9]+)/([0-9]+)"
 NAME = "(?!span(?![a-z0-9-]))[a-z][a-z0-9-]{0,15}(?![a-z0-9-])"
 NAMES = rf"names\((?:{NAME}(?:,{NAME})*)?\)"
 LINE = "-?(?:[1-9]|[12][0-9]|30)"
@@ -40,8 +42,15 @@ ITEM_LINES = [
 CONTENT = f"words{behind(NUMBER, 3)}|block{behind(NUMBER, 2, 2)}|page"
 
 
+def in_lowest_terms(top, bottom):
+    return Fraction(int(top), int(bottom)).denominator == int(bottom)
+
+
 def has_form(line, blanks, pattern):
-    return re.fullmatch(f" {{{blanks}}}(?:{pattern})", line) is not None
+    if re.fullmatch(f" {{{blanks}}}(?:{pattern})", line) is None:
+        return False
+    # No pattern tells lowest terms; where no NUMBER may stand, a word may be of any form.
+    return NUMBER not in pattern or all(in_lowest_terms(*pair) for pair in re.findall(FRACTION, line))
 
 
 class Position:

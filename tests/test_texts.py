@@ -132,6 +132,33 @@ def with_line(text, index, line):
     return "\n".join(lines)
 
 
+ENTRIES = ("{}", "part({})", "share({})", "between({},auto)", "between(5,{})", "between(part({}),5)", "between(5,share({}))",
+           "upto({})", "upto(part({}))", "repeat({},20)", "repeat(2,names(a),{})", "repeat(2,between(5,part({})))", "fill({})",
+           "fit(20,names(),share({}))", "fit(between(upto({}),5))")
+# How many numbers stand in a line at most that are told one by one.
+MANY = {"margins": 4, "sizes": 6, "words": 5, "block": 2}
+
+
+def numbers_behind(head):
+    """What may stand behind the first word of a line, with {} for each place of a NUMBER in turn."""
+    if head in ("columns", "rows", "more-columns", "more-rows"):
+        return [*ENTRIES, "5 {}", "{} auto"]
+    if head == "gaps":
+        return ["{} 0", *["0 " + entry for entry in ENTRIES]]
+    many = MANY.get(head, 0)
+    return [" ".join([*["1"] * k, "{}", *["1"] * (many - k - 1)]) for k in range(many)]
+
+
+def number_places():
+    """Pairs of the index of a line of WHOLE and another line for it, with {} for a NUMBER."""
+    places = []
+    for index, line in enumerate(WHOLE.split("\n")[:-1]):
+        head = line.split()[0]
+        blanks = line[:len(line) - len(line.lstrip())]
+        places.extend((index, f"{blanks}{head} {rest}") for rest in numbers_behind(head))
+    return places
+
+
 class WrittenTest(Case):
 
     def test_pages(self):
@@ -290,17 +317,52 @@ class ReadTest(Case):
                     self.assertIsNot((raised(read_page, with_line(WHOLE, index, changed)) or (None,))[0], NoText)
 
     NUMBERS = ("00", "01", "-0", "+1", "--1", "1.5", "1e3", "0x1", "", "/", "1/", "/2", "1//2", "1/2/3", "1/02", "01/2", "1/+2",
-               "1/-0", "-", "a", "1_0", "\u0661", "\u00b2", "1\u0662", "one", "1" + "0" * 30, "-1" + "0" * 30, "1/1" + "0" * 30,
-               "1" + "0" * 30 + "/3", "True", "(1)", "1/ 2")
+               "1/-0", "-0/3", "-", "a", "1_0", "\u0661", "\u00b2", "1\u0662", "one", "1" + "0" * 30, "-1" + "0" * 30,
+               "1/1" + "0" * 30, "1" + "0" * 30 + "/3", "True", "(1)", "1/ 2")
+    # A common divisor above 1, or a bottom that is not from 2 on.
+    FRACTIONS = ("1/1", "0/1", "-1/1", "3/1", "-7/1", "1/0", "0/0", "-1/0", "1/-1", "1/-2", "-1/-2", "-2/-3", "2/-4", "3/-1", "2/4",
+                 "-2/4", "4/2", "6/3", "6/4", "0/2", "0/3", "9/15", "35/49", "2/2", "9" * 30 + "/3", "3/" + "9" * 30,
+                 "9" * 30 + "/" + "9" * 30, "1" + "0" * 29 + "/1", "7" * 30 + "/1" + "0" * 14 + "1")
+
+    def test_the_places_of_numbers(self):
+        self.assertEqual(len(number_places()), 12 * 17 + 3 * 16 + 6 * (4 + 6) + 2 * 5 + 2 * 2)
+        for index, line in number_places():
+            for number in ("0", "-3", "1/2", "-15/4"):
+                text = with_line(WHOLE, index, line.format(number))
+                self.assertIsNone(wrong_line(text), line)
+                self.assertIsNot((raised(read_page, text) or (None,))[0], NoText, line)
 
     def test_numbers(self):
         for number in self.NUMBERS:
-            for index, line in ((13, "  margins {} 0 0 0"), (13, "  margins 0 0 0 {}"), (14, "  sizes {} - - - - -"),
-                                (16, "  words {} 2 3"), (16, "  words 1 2 3 {}"), (68, "  block {} 2"), (68, "  block 1 {}"),
-                                (0, "columns {}"), (0, "columns 5 part({})"), (4, "more-columns {}"),
-                                (5, "more-rows between({},5)"), (7, "gaps {} 0"), (7, "gaps 0 share({})"), (10, "item {}")):
+            for index, line in number_places():
                 if number != "-" or "sizes" not in line:
                     self.check_line(index, line.format(number))
+            self.check_line(10, "item " + number)
+
+    def test_fractions_that_are_no_numbers(self):
+        for number in self.FRACTIONS:
+            for index, line in number_places():
+                self.check_line(index, line.format(number))
+            self.check_line(10, "item " + number)
+            self.check_line(12, f"  row a:{number} -")
+
+    def test_lines_told_of_a_fraction(self):
+        text = page_text(Page(Grid()))
+        for word in ("2/4", "1/1", "1/-2"):
+            self.check_line(3, "more-rows 5 " + word, text=text)
+            self.check_line(0, "columns " + word, text=text)
+        # The first such line is told, and ahead of what classes refuse in others.
+        text = with_line(with_line(WHOLE, 68, "  block 2/4 1"), 0, "columns -5")
+        self.check_wrong(text, 68)
+        self.check_wrong(with_line(text, 13, "  margins 0 0 3/1 0"), 13)
+
+    def test_fractions_as_other_words(self):
+        for number in ("1/1", "2/4", "1/-2", "1/2"):
+            self.check_line(2, f"fields {number} .", (NoGrid, {"part": "fields", "index": 0}))
+            self.check_line(6, f"flow {number} dense", (NoGrid, {"part": "flow", "index": -1}))
+            self.check_line(8, f"lanes {number} start", (NoGrid, {"part": "justify", "index": -1}))
+            self.check_line(9, f"items start {number}", (NoGrid, {"part": "items_align", "index": -1}))
+            self.check_line(15, f"  own - {number}", (NoItem, {"part": "align"}))
 
     def test_thirty_figures(self):
         for number in ("9" * 30, "-" + "9" * 30, "9" * 30 + "/" + "9" * 29 + "8", "1/" + "9" * 30, "-1/2", "0", "-1"):
@@ -312,17 +374,6 @@ class ReadTest(Case):
         self.check_line(0, "columns " + "9" * 30, True)
 
     def test_numbers_that_classes_refuse(self):
-        for number in ("2/4", "3/1", "0/2", "1/0", "1/-2", "-2/-3", "0/0"):
-            self.check_line(13, f"  margins 0 {number} 0 0", (NoItem, {"part": "margins"}))
-            self.check_line(14, f"  sizes - - - {number} - -", (NoItem, {"part": "greatest_width"}))
-            self.check_line(68, f"  block {number} 5", (NoContent, {"part": "width", "index": -1}))
-            self.check_line(68, f"  block 5 {number}", (NoContent, {"part": "height", "index": -1}))
-            self.check_line(16, f"  words 1 2 3 4 {number}", (NoContent, {"part": "widths", "index": 1}))
-            self.check_line(16, f"  words 1 {number} 3 4", (NoContent, {"part": "line", "index": -1}))
-            self.check_line(0, f"columns {number}", (NoGrid, {"part": "columns", "index": -1}))
-            self.check_line(7, f"gaps {number} 0", (NoGrid, {"part": "column_gap", "index": -1}))
-            self.check_line(7, f"gaps 0 part({number})", (NoGrid, {"part": "row_gap", "index": -1}))
-            self.check_line(4, f"more-columns 5 {number}", (NoGrid, {"part": "more_columns", "index": 1}))
         for number in ("-1", "-1/2"):
             for k, part in enumerate(("width", "height", "least_width", "greatest_width", "least_height", "greatest_height")):
                 sizes = ["-"] * 6
@@ -332,7 +383,16 @@ class ReadTest(Case):
                 words = ["1"] * 5
                 words[k] = number
                 self.check_line(16, "  words " + " ".join(words), (NoContent, {"part": part, "index": -1}))
+            for k, part in enumerate(("width", "height")):
+                words = ["1", "1"]
+                words[k] = number
+                self.check_line(68, "  block " + " ".join(words), (NoContent, {"part": part, "index": -1}))
+            self.check_line(16, f"  words 1 2 3 4 {number}", (NoContent, {"part": "widths", "index": 1}))
+            self.check_line(0, f"columns {number}", (NoGrid, {"part": "columns", "index": -1}))
+            self.check_line(1, f"rows 5 part({number})", (NoGrid, {"part": "rows", "index": -1}))
+            self.check_line(4, f"more-columns 5 {number}", (NoGrid, {"part": "more_columns", "index": 1}))
             self.check_line(7, f"gaps {number} 0", (NoGrid, {"part": "column_gap", "index": -1}))
+            self.check_line(7, f"gaps 0 part({number})", (NoGrid, {"part": "row_gap", "index": -1}))
         self.check_line(16, "  words 1 2 3" + " 4" * 20, True)
         self.check_line(16, "  words 1 2 3" + " 4" * 21, (NoContent, {"part": "widths", "index": -1}))
 
@@ -409,7 +469,7 @@ class ReadTest(Case):
     def test_edges(self):
         for edge in ("0", "31", "-31", "01", "+1", "-0", "A", "1a", "span", "a" * 17, "a:0", "a:31", "a:-31", "a:01", "a:", ":1", "a:b",
                      "a:1:2", "span:0", "span:31", "span:-1", "span:2:", "span:2:A", "span:2:span", "span:a", "span:2:3", "span:2:a:b",
-                     "span:", "1:a", "--", "1/2", "None", "a:-", "-:1", "\u0661", "a:span", "span:1:1"):
+                     "span:", "1:a", "--", "1/2", "2/4", "1/1", "None", "a:-", "-:1", "\u0661", "a:span", "span:1:1"):
             for index, line in ((11, f"  column {edge} -"), (11, f"  column - {edge}"), (12, f"  row {edge} -"), (12, f"  row 1 {edge}")):
                 self.check_line(index, line)
         for edge in ("1", "30", "-1", "-30", "a", "a-9", "a" * 16, "spans", "a:1", "a:30", "a:-30", "span:1", "span:30", "span:1:a",
@@ -458,8 +518,8 @@ class ReadTest(Case):
         index = rng.randrange(len(lines))
         words = lines[index].split(" ")
         kind = rng.randrange(8)
-        pool = ("-", "0", "1", "-1", "1/2", "2/4", "auto", "share(1)", "fill(20)", "names(a)", "inherited()", "a", "span:2", "dense",
-                "part(auto)", "x(", "", "item", "page", "9" * 31, "row", "stretch")
+        pool = ("-", "0", "1", "-1", "1/2", "2/4", "3/1", "1/-2", "part(2/4)", "auto", "share(1)", "fill(20)", "names(a)",
+                "inherited()", "a", "span:2", "dense", "part(auto)", "x(", "", "item", "page", "9" * 31, "row", "stretch")
         if kind < 3:
             words[rng.randrange(len(words))] = rng.choice(pool)
             lines[index] = " ".join(words)
